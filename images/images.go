@@ -53,3 +53,12 @@ func Load(image string) (api.Loaded, api.Errno) {
 	}
 	return api.Loaded{Version: version, Entry: entry, Ram: string(m.bytes[:])}, api.OK
 }
+
+// Version: the version of an image; -1, if the text is none.
+func Version(image string) int {
+	version, _, _, e := Unpack(image)
+	if e != api.OK {
+		return -1
+	}
+	return version
+}

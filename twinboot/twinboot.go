@@ -5,6 +5,7 @@ import (
 	"twinboot/api"
 	"twinboot/chip"
 	"twinboot/images"
+	"twinboot/store"
 )
 
 // Pack makes an image (P3).
@@ -22,26 +23,107 @@ func Load(image string) (api.Loaded, api.Errno) {
 	return images.Load(image)
 }
 
-// Device is one that is open.
-type Device struct{}
+// Device is one that is open. What it holds is on its chip alone, and read there at each call.
+type Device struct {
+	chip    *chip.Chip
+	running int
+}
 
 // Format makes a device on a chip (P6).
-func Format(c *chip.Chip, image string) api.Errno { return api.OK }
+func Format(c *chip.Chip, image string) api.Errno {
+	_, e := store.Load(c)
+	if e == api.OK {
+		return api.ErrUsed
+	}
+	version := images.Version(image)
+	if version < 0 {
+		return api.ErrImage
+	}
+	store.Create(c, store.Held{Good: image, Floor: version})
+	return api.OK
+}
 
 // Open opens the device on a chip (P7).
-func Open(c *chip.Chip) (*Device, api.Errno) { return nil, api.OK }
+func Open(c *chip.Chip) (*Device, api.Errno) {
+	_, e := store.Load(c)
+	if e != api.OK {
+		return nil, e
+	}
+	return &Device{chip: c}, api.OK
+}
 
 // State tells what the device holds, and what runs (P8).
-func (d *Device) State() api.State { return api.State{} }
+func (d *Device) State() api.State {
+	h, e := store.Load(d.chip)
+	if e != api.OK {
+		return api.State{}
+	}
+	return api.State{
+		Version: images.Version(h.Good),
+		Floor:   h.Floor,
+		Trial:   images.Version(h.Trial),
+		Tries:   h.Tries,
+		Size:    h.Size,
+		Got:     len(h.Got),
+		Running: d.running,
+	}
+}
 
 // Stage makes room for something new (P9).
-func (d *Device) Stage(size int) api.Errno { return api.OK }
+func (d *Device) Stage(size int) api.Errno {
+	if size < 1 || size > api.MaxImage {
+		return api.ErrSize
+	}
+	h, e := store.Load(d.chip)
+	if e != api.OK {
+		return e
+	}
+	if h.Trial != "" {
+		return api.ErrTrial
+	}
+	store.Save(d.chip, store.Held{Good: h.Good, Floor: h.Floor, Size: size})
+	return api.OK
+}
 
 // Write takes some bytes of what is staged (P10).
-func (d *Device) Write(data string) api.Errno { return api.OK }
+func (d *Device) Write(data string) api.Errno {
+	h, e := store.Load(d.chip)
+	if e != api.OK {
+		return e
+	}
+	if h.Size == 0 {
+		return api.ErrIdle
+	}
+	if data == "" || len(data) > api.MaxWrite || len(data) > h.Size-len(h.Got) {
+		return api.ErrSize
+	}
+	h.Got = h.Got + data
+	store.Save(d.chip, h)
+	return api.OK
+}
 
 // Activate puts what is staged on trial (P11).
-func (d *Device) Activate() api.Errno { return api.OK }
+func (d *Device) Activate() api.Errno {
+	h, e := store.Load(d.chip)
+	if e != api.OK {
+		return e
+	}
+	if h.Size == 0 {
+		return api.ErrIdle
+	}
+	if len(h.Got) < h.Size {
+		return api.ErrShort
+	}
+	version := images.Version(h.Got)
+	if version < 0 {
+		return api.ErrImage
+	}
+	if version < h.Floor {
+		return api.ErrOld
+	}
+	store.Save(d.chip, store.Held{Good: h.Good, Floor: h.Floor, Trial: h.Got, Tries: api.MaxTries})
+	return api.OK
+}
 
 // Boot lets an image run (P12).
 func (d *Device) Boot() api.Jump { return api.Jump{} }
