@@ -1,6 +1,7 @@
 package twinboot_test
 
 import (
+	"fmt"
 	"math"
 	"math/rand"
 	"strings"
@@ -50,8 +51,10 @@ func TestExample6(t *testing.T) {
 func TestExample7(t *testing.T) {
 	for version := 2; version <= 3; version++ {
 		_, d := device(t, image(3, 9))
+		want(t, "Confirm", d.Confirm(), api.ErrRun)
 		want(t, "Write", d.Write("a"), api.ErrIdle)
 		want(t, "Activate", d.Activate(), api.ErrIdle)
+		want(t, "Drop", d.Drop(), api.ErrIdle)
 		want(t, "Stage of 0", d.Stage(0), api.ErrSize)
 		want(t, "Stage of 121", d.Stage(121), api.ErrSize)
 		want(t, "Stage of 13", d.Stage(13), api.OK)
@@ -70,6 +73,7 @@ func TestExample7(t *testing.T) {
 		want(t, "Activate", d.Activate(), api.OK)
 		wantState(t, d, api.State{Version: 3, Floor: 3, Trial: 3, Tries: 3})
 		want(t, "Stage of 13", d.Stage(13), api.ErrTrial)
+		want(t, "Confirm", d.Confirm(), api.ErrRun)
 	}
 }
 
@@ -148,7 +152,7 @@ func TestP6StrangeBytes(t *testing.T) {
 		d := wantDevice(t, c, m)
 		for _, x := range []call{{name: "Stage", size: 2}, {name: "Write", data: "T"}, {name: "Write", data: "B"}, {name: "Activate"}} {
 			m = wantCall(t, c, d, m, x)
-			wantDevice(t, c, m)
+			d = wantDevice(t, c, m)
 		}
 	}
 }
@@ -165,6 +169,14 @@ func strangeBytes() []string {
 		r.Read(b)
 		l = append(l, string(b))
 	}
+	for _, now := range []string{bytesOf(staging()), bytesOf(trying())} {
+		l = append(l, spoilt(r, now)...)
+	}
+	return l
+}
+
+// staging: a chip on whose device something is staged, and has come in part.
+func staging() *chip.Chip {
 	c := chip.New()
 	twinboot.Format(c, image(3, 2))
 	d, _ := twinboot.Open(c)
@@ -172,9 +184,31 @@ func strangeBytes() []string {
 	for i := 0; i < 12; i++ {
 		d.Write("12345678")
 	}
-	now := bytesOf(c)
+	return c
+}
+
+// trying: a chip on whose device an image on trial has run.
+func trying() *chip.Chip {
+	c := chip.New()
+	twinboot.Format(c, image(3, 2))
+	d, _ := twinboot.Open(c)
+	next := image(4, 2)
+	d.Stage(len(next))
+	d.Write(next[:8])
+	d.Write(next[8:])
+	d.Activate()
+	d.Boot()
+	return c
+}
+
+// spoilt: the bytes of a chip with some of them changed.
+func spoilt(r *rand.Rand, now string) []string {
+	var l []string
 	for at := 0; at < 1024; at++ {
 		for _, x := range []byte{1, 2, 4, 8, 16, 32, 64, 128, 255} {
+			if at%256 > 32 && x < 255 {
+				continue
+			}
 			b := []byte(now)
 			b[at] ^= x
 			l = append(l, string(b))
@@ -206,20 +240,36 @@ func TestP7Open(t *testing.T) {
 	}
 	c, d := device(t, image(3, 2))
 	for i := 0; i < 3; i++ {
-		wantDevice(t, c, &modelDevice{good: image(3, 2), floor: 3})
+		bytes := bytesOf(c)
+		d = wantDevice(t, c, &modelDevice{good: image(3, 2), floor: 3})
+		if bytesOf(c) != bytes {
+			t.Error("Open changed a chip")
+		}
 	}
 	take(t, d, image(4, 2), 8)
 	want(t, "Activate", d.Activate(), api.OK)
-	d, e := twinboot.Open(c)
-	want(t, "Open", e, api.OK)
-	if s := d.State(); s.Running != 0 {
-		t.Errorf("%+v: a device that was just opened runs something", s)
+	for tries := 3; tries >= 0; tries-- {
+		d = wantDevice(t, c, &modelDevice{good: image(3, 2), floor: 3, trial: image(4, 2), tries: tries})
+		d.Boot()
+	}
+	wantDevice(t, c, &modelDevice{good: image(3, 2), floor: 3})
+}
+
+// everyCall: each of a device's calls, from what it finds up to an image that runs, and back.
+func everyCall() []call {
+	next := image(65535, 0)
+	return []call{
+		{name: "Format", data: "TB"}, {name: "Write", data: "a"}, {name: "Write", data: "12345678"}, {name: "Activate"}, {name: "Confirm"},
+		{name: "Boot"}, {name: "Raise"}, {name: "Boot"}, {name: "Confirm"}, {name: "Boot"}, {name: "Raise"}, {name: "Drop"}, {name: "Drop"},
+		{name: "Stage", size: 121}, {name: "Stage", size: len(next)}, {name: "Raise"}, {name: "Write", data: next[:8]}, {name: "Write", data: next[8:]},
+		{name: "Activate"}, {name: "Boot"}, {name: "Boot"}, {name: "Boot"}, {name: "Confirm"}, {name: "Raise"},
+		{name: "Stage", size: len(next)}, {name: "Write", data: next[:8]}, {name: "Write", data: next[8:]}, {name: "Activate"},
+		{name: "Boot"}, {name: "Boot"}, {name: "Boot"}, {name: "Boot"}, {name: "Drop"},
 	}
 }
 
 // P7: bytes of others lead to no panic, to no more operations than may be, and to no state that could not be.
 func TestP7StrangeBytes(t *testing.T) {
-	calls := []call{{name: "Format", data: "TB"}, {name: "Write", data: "a"}, {name: "Write", data: "12345678"}, {name: "Activate"}, {name: "Stage", size: 121}, {name: "Stage", size: 120}, {name: "Write", data: "12345678"}}
 	found := 0
 	for _, bytes := range strangeBytes() {
 		c := withBytes(bytes)
@@ -231,9 +281,9 @@ func TestP7StrangeBytes(t *testing.T) {
 			continue
 		}
 		found++
-		for _, x := range calls {
+		for _, x := range everyCall() {
 			ops := c.Ops()
-			x.do(c, d)
+			a := x.do(c, d)
 			if n := c.Ops() - ops; n > 64 {
 				t.Fatalf("%s made %d operations on %x", x.name, n, bytes)
 			}
@@ -242,7 +292,11 @@ func TestP7StrangeBytes(t *testing.T) {
 			if c.Ops() != ops {
 				t.Fatal("State made an operation")
 			}
+			if x.name == "Boot" {
+				wantJump(t, d.State(), a.jump)
+			}
 		}
+		wantState(t, d, api.State{Version: 65535, Floor: 65535, Trial: -1, Running: 1})
 	}
 	if found < 100 {
 		t.Errorf("%d devices only", found)
@@ -252,7 +306,7 @@ func TestP7StrangeBytes(t *testing.T) {
 // wantPossible: a state that a device may be in.
 func wantPossible(t *testing.T, s api.State) {
 	t.Helper()
-	if s.Version < s.Floor || s.Version > 65535 || s.Floor < 0 || s.Running != 0 {
+	if s.Version < s.Floor || s.Version > 65535 || s.Floor < 0 || s.Running < 0 || s.Running > 2 || s.Running == 2 && s.Trial == -1 {
 		t.Fatalf("%+v", s)
 	}
 	if s.Trial == -1 && s.Tries != 0 || s.Trial != -1 && (s.Trial < s.Floor || s.Size != 0) || s.Tries < 0 || s.Tries > 3 {
@@ -263,25 +317,45 @@ func wantPossible(t *testing.T, s api.State) {
 	}
 }
 
+// wantJump: what Boot answered fits the state behind it.
+func wantJump(t *testing.T, s api.State, j api.Jump) {
+	t.Helper()
+	version := s.Version
+	if j.Trial {
+		version = s.Trial
+	}
+	if s.Running == 0 || j.Trial != (s.Running == 2) || j.Image.Version != version || len(j.Image.Ram) != 128 {
+		t.Fatalf("Boot = %+v, at %+v", j, s)
+	}
+}
+
 // P1: others lay bytes on a chip while its device is open.
 func TestP1StrangeBytesUnderDevice(t *testing.T) {
 	for at := 0; at < 1024; at += 8 {
 		for _, what := range []string{"\x00", "\x00\x00\x00\x00\x00\x00\x00\x00", "\xfc", "\x55\x55\x55\x55\x55\x55\x55\x55"} {
-			c, d := device(t, image(3, 2))
-			take(t, d, image(4, 2), 8)
-			c.Program(at, what)
-			for _, x := range []call{{name: "Write", data: "a"}, {name: "Activate"}, {name: "Stage", size: 9}} {
-				x.do(c, d)
-				d.State()
+			for boots := 0; boots < 3; boots++ {
+				c, d := device(t, image(3, 2))
+				take(t, d, image(4, 2), 8)
+				if boots > 0 {
+					want(t, "Activate", d.Activate(), api.OK)
+				}
+				for i := 0; i < boots; i++ {
+					d.Boot()
+				}
+				c.Program(at, what)
+				for _, x := range everyCall() {
+					x.do(c, d)
+					d.State()
+				}
+				for s := 0; s < chip.Sectors; s++ {
+					c.Erase(s)
+				}
+				for _, x := range everyCall() {
+					x.do(c, d)
+					d.State()
+				}
+				wantDevice(t, c, nil)
 			}
-			for s := 0; s < chip.Sectors; s++ {
-				c.Erase(s)
-			}
-			for _, x := range []call{{name: "Write", data: "a"}, {name: "Activate"}, {name: "Stage", size: 9}} {
-				x.do(c, d)
-				d.State()
-			}
-			wantDevice(t, c, nil)
 		}
 	}
 }
@@ -337,7 +411,7 @@ func TestP9Stage(t *testing.T) {
 	m := &modelDevice{good: image(3, 2), floor: 3}
 	for size := -3; size <= 130; size++ {
 		m = wantCall(t, c, d, m, call{name: "Stage", size: size})
-		wantDevice(t, c, m)
+		d = wantDevice(t, c, m)
 		if size%3 == 0 {
 			m = wantCall(t, c, d, m, call{name: "Write", data: "a"})
 		}
@@ -389,7 +463,7 @@ func TestP10Write(t *testing.T) {
 			m = wantCall(t, c, d, m, call{name: "Stage", size: size})
 			for i := 0; i < 3; i++ {
 				m = wantCall(t, c, d, m, call{name: "Write", data: xs(n)})
-				wantDevice(t, c, m)
+				d = wantDevice(t, c, m)
 			}
 		}
 	}
@@ -397,7 +471,7 @@ func TestP10Write(t *testing.T) {
 	for _, n := range []int{9, 16, 120, 121, 256, 257, 264, 1 << 20} {
 		want(t, "Write of many", d.Write(xs(n)), api.ErrSize)
 	}
-	wantDevice(t, c, m)
+	d = wantDevice(t, c, m)
 	take(t, d, image(3, 2), 8)
 	want(t, "Write behind all", d.Write("a"), api.ErrSize)
 	want(t, "Write of none behind all", d.Write(""), api.ErrSize)
@@ -471,35 +545,47 @@ func TestP11NoImage(t *testing.T) {
 	}
 }
 
-// P6 to P11 and P17: many calls, against the model; and what a call changed is there at the next Open.
-func TestP11Model(t *testing.T) {
+// P6 to P15 and P17: many calls, against the model; and what a call changed is there at the next Open.
+func TestModel(t *testing.T) {
 	r := rand.New(rand.NewSource(10))
-	tally := map[api.Errno]int{}
-	for i := 0; i < 400; i++ {
+	tally := map[string]int{}
+	for i := 0; i < 600; i++ {
 		c := chip.New()
 		var m *modelDevice
 		var d *twinboot.Device
-		next := image(r.Intn(4), r.Intn(110))
-		for j := 0; j < 60; j++ {
+		next := randomImage(r)
+		for j := 0; j < 100; j++ {
 			x := randomCall(r, m, next)
-			_, e := x.model(m)
-			tally[e]++
+			_, a := x.model(m)
+			tally[fmt.Sprint(x.name, a.errno, a.jump.Trial)]++
 			m = wantCall(t, c, d, m, x)
-			if d == nil || r.Intn(3) == 0 {
+			if m != nil && (d == nil || r.Intn(10) == 0) {
 				d = wantDevice(t, c, m)
-			}
-			if m != nil {
-				wantState(t, d, m.state())
+				m.running = 0
 			}
 			if x.name == "Activate" {
-				next = image(r.Intn(4), r.Intn(110))
+				next = randomImage(r)
 			}
 		}
 	}
-	for _, e := range []api.Errno{api.OK, api.ErrImage, api.ErrUsed, api.ErrSize, api.ErrTrial, api.ErrIdle, api.ErrShort, api.ErrOld} {
-		if tally[e] < 20 {
-			t.Errorf("the answer %d came %d times only", e, tally[e])
+	for name, answers := range map[string][]api.Errno{
+		"Format":   {api.OK, api.ErrImage, api.ErrUsed},
+		"Stage":    {api.OK, api.ErrSize, api.ErrTrial},
+		"Write":    {api.OK, api.ErrIdle, api.ErrSize},
+		"Activate": {api.OK, api.ErrIdle, api.ErrShort, api.ErrImage, api.ErrOld},
+		"Boot":     {api.OK},
+		"Confirm":  {api.OK, api.ErrRun},
+		"Raise":    {api.OK, api.ErrTrial},
+		"Drop":     {api.OK, api.ErrIdle},
+	} {
+		for _, e := range answers {
+			if n := tally[fmt.Sprint(name, e, false)]; n < 20 {
+				t.Errorf("%s was answered %d only %d times", name, e, n)
+			}
 		}
+	}
+	if n := tally[fmt.Sprint("Boot", api.OK, true)]; n < 20 {
+		t.Errorf("an image on trial ran %d times only", n)
 	}
 }
 
@@ -541,17 +627,16 @@ func TestP17Most(t *testing.T) {
 // Calls that are cut off, again and again: the next Open finds what was ahead of the call, or what is behind it.
 func TestCutOften(t *testing.T) {
 	r := rand.New(rand.NewSource(11))
-	ahead, behind := 0, 0
+	ahead, behind := map[string]int{}, map[string]int{}
 	for i := 0; i < 1500; i++ {
 		c := chip.New()
 		var m *modelDevice
-		next := image(3+r.Intn(2), r.Intn(110))
-		for j := 0; j < 40; j++ {
+		var d *twinboot.Device
+		next := randomImage(r)
+		for j := 0; j < 80; j++ {
 			x := randomCall(r, m, next)
-			d, _ := twinboot.Open(c)
-			if r.Intn(3) > 0 {
+			if d != nil && r.Intn(3) > 0 {
 				m = wantCall(t, c, d, m, x)
-				wantDevice(t, c, m)
 				continue
 			}
 			torn := make([]byte, r.Intn(20))
@@ -560,17 +645,25 @@ func TestCutOften(t *testing.T) {
 			x.do(c, d)
 			c.Restore()
 			then, _ := x.model(m)
-			if found(c) != modelFound(m) {
+			if found(c) == modelFound(then) {
 				m = then
-				behind++
+				behind[x.name]++
 			} else {
-				ahead++
+				ahead[x.name]++
 			}
-			wantDevice(t, c, m)
+			d = wantDevice(t, c, m)
+			if m != nil {
+				m.running = 0
+			}
+			if x.name == "Activate" {
+				next = randomImage(r)
+			}
 		}
 	}
-	if ahead < 100 || behind < 100 {
-		t.Errorf("%d ahead, %d behind", ahead, behind)
+	for _, name := range []string{"Format", "Stage", "Write", "Activate", "Boot", "Confirm", "Raise", "Drop"} {
+		if ahead[name] < 5 || behind[name] < 5 {
+			t.Errorf("%s: %d ahead, %d behind", name, ahead[name], behind[name])
+		}
 	}
 }
 
@@ -587,5 +680,7 @@ func modelFound(m *modelDevice) api.State {
 	if m == nil {
 		return api.State{}
 	}
-	return m.state()
+	s := m.state()
+	s.Running = 0
+	return s
 }

@@ -23,6 +23,13 @@ func Load(image string) (api.Loaded, api.Errno) {
 	return images.Load(image)
 }
 
+// What runs.
+const (
+	nothingRuns = 0
+	goodRuns    = 1
+	trialRuns   = 2
+)
+
 // Device is one that is open. What it holds is on its chip alone, and read there at each call.
 type Device struct {
 	chip    *chip.Chip
@@ -49,7 +56,7 @@ func Open(c *chip.Chip) (*Device, api.Errno) {
 	if e != api.OK {
 		return nil, e
 	}
-	return &Device{chip: c}, api.OK
+	return &Device{chip: c, running: nothingRuns}, api.OK
 }
 
 // State tells what the device holds, and what runs (P8).
@@ -126,13 +133,74 @@ func (d *Device) Activate() api.Errno {
 }
 
 // Boot lets an image run (P12).
-func (d *Device) Boot() api.Jump { return api.Jump{} }
+func (d *Device) Boot() api.Jump {
+	h, e := store.Load(d.chip)
+	if e != api.OK {
+		return api.Jump{}
+	}
+	if h.Trial != "" && h.Tries > 0 {
+		// The try is gone before the image runs: an image that hangs has had it all the same.
+		h.Tries--
+		store.Save(d.chip, h)
+		d.running = trialRuns
+		return jump(h.Trial, true)
+	}
+	if h.Trial != "" {
+		h.Trial = ""
+		store.Save(d.chip, h)
+	}
+	d.running = goodRuns
+	return jump(h.Good, false)
+}
+
+func jump(image string, trial bool) api.Jump {
+	loaded, e := images.Load(image)
+	if e != api.OK {
+		return api.Jump{}
+	}
+	return api.Jump{Trial: trial, Image: loaded}
+}
 
 // Confirm makes the image on trial the good one (P13).
-func (d *Device) Confirm() api.Errno { return api.OK }
+func (d *Device) Confirm() api.Errno {
+	h, e := store.Load(d.chip)
+	if e != api.OK {
+		return e
+	}
+	if d.running != trialRuns || h.Trial == "" {
+		return api.ErrRun
+	}
+	store.Save(d.chip, store.Held{Good: h.Trial, Floor: h.Floor})
+	d.running = goodRuns
+	return api.OK
+}
 
 // Raise raises the floor (P14).
-func (d *Device) Raise() api.Errno { return api.OK }
+func (d *Device) Raise() api.Errno {
+	h, e := store.Load(d.chip)
+	if e != api.OK {
+		return e
+	}
+	if h.Trial != "" {
+		return api.ErrTrial
+	}
+	h.Floor = images.Version(h.Good)
+	store.Save(d.chip, h)
+	return api.OK
+}
 
 // Drop drops what is on trial, or staged (P15).
-func (d *Device) Drop() api.Errno { return api.OK }
+func (d *Device) Drop() api.Errno {
+	h, e := store.Load(d.chip)
+	if e != api.OK {
+		return e
+	}
+	if h.Trial == "" && h.Size == 0 {
+		return api.ErrIdle
+	}
+	store.Save(d.chip, store.Held{Good: h.Good, Floor: h.Floor})
+	if d.running == trialRuns {
+		d.running = nothingRuns
+	}
+	return api.OK
+}
